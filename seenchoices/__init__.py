@@ -1,0 +1,1 @@
+"""Seenchoices: what choices between words say about unknown costs of edits."""
