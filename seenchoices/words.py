@@ -2,10 +2,11 @@
 
 from math import gcd
 
-from seenchoices.errors import InvalidPart
+from seenchoices.errors import Duplicate, InvalidPart, InvalidWord
 
 LONGEST_WORD = 6
 LONGEST_NAME = 8
+MOST_WORDS = 5
 
 
 def is_list(value):
@@ -48,6 +49,22 @@ def is_name(value):
     return is_lettered(value) and 1 <= len(value) <= LONGEST_NAME
 
 
+def check_word(value):
+    """Raise an error unless a value is a word."""
+    if not is_word(value):
+        raise InvalidWord(value)
+
+
+def check_words(words):
+    """Raise an error unless this is a list of one to five different words."""
+    if not is_list(words) or not 1 <= len(words) <= MOST_WORDS:
+        raise InvalidPart(words)
+    for position, word in enumerate(words):
+        check_word(word)
+        if word in words[:position]:
+            raise Duplicate(word)
+
+
 def scaled(numbers):
     """A tuple of integers divided by their greatest common divisor; zeros stay as they are."""
     if not is_whole_list(numbers):
@@ -60,10 +77,15 @@ def scaled(numbers):
     return tuple([number // divisor for number in numbers])
 
 
+def weighed(counts, numbers):
+    """What price tells, for what is known to be right."""
+    return sum([count * number for count, number in zip(counts, numbers)])
+
+
 def price(counts, numbers):
     """The sum of the products of the items of two tuples of integers."""
     if not is_whole_list(counts):
         raise InvalidPart(counts)
     if not is_whole_list(numbers) or len(numbers) != len(counts):
         raise InvalidPart(numbers)
-    return sum([count * number for count, number in zip(counts, numbers)])
+    return weighed(counts, numbers)

@@ -3,9 +3,9 @@
 import doctest
 import unittest
 
-from seenchoices import schemes, words
+from seenchoices import counts, distances, rows, schemes, systems, words
 
-MODULES = [words, schemes]
+MODULES = [words, schemes, rows, counts, distances, systems]
 
 EXAMPLES = r"""
 [13]
@@ -31,6 +31,48 @@ EXAMPLES = r"""
 
     >>> numbers_of(scheme, {"near": 1, "turn": 5, "edit": 3})
     (3, 1, 5)
+
+[32]
+
+    >>> scheme = Scheme(["edit", "near", "turn"], add="edit", drop="edit", swap="edit", groups=[("ae", "near")], turn="turn")
+    >>> row = [("keep",), ("swap", "e"), ("turn",), ("add", "s")]
+    >>> [written(scheme, "halp", row), counts_of(scheme, "halp", row), is_row(scheme, "halp", row[1:]), is_row(scheme, "hall", row)]
+    ['hepls', (1, 1, 1), False, False]
+
+[34]
+
+    >>> [sorted(rows_between(scheme, "ab", "b"))[0], row_count(scheme, "ab", "ba"), row_count(scheme, "", "abc")]
+    [[('add', 'b'), ('drop',), ('drop',)], 14, 1]
+
+[41]
+
+    >>> scheme = Scheme(["indel", "swap"], add="indel", drop="indel", swap="swap")
+    >>> [minimal_counts(scheme, "abc", "ca"), minimal_counts(scheme, "abc", "abc"), len(all_counts(scheme, "abc", "ca"))]
+    [[(1, 2), (3, 0)], [(0, 0)], 4]
+
+[43]
+
+    >>> [free_counts(scheme, "abc", "ca", "swap"), free_counts(scheme, "ab", "cd", "near")]
+    [[(3, 0)], [(0, 2), (2, 1), (4, 0)]]
+
+[51]
+
+    >>> scheme = Scheme(["indel", "swap"], add="indel", drop="indel", swap="swap")
+    >>> [distance(scheme, "abc", "ca", {"indel": 2, "swap": 1}), distance(scheme, "abc", "ca", {"indel": 2, "swap": 9})]
+    [4, 6]
+    >>> [cheapest_counts(scheme, "abc", "ca", {"indel": 1, "swap": 1}), cheapest_many(scheme, "a", "b", {"indel": 1, "swap": 2})]
+    [[(1, 2), (3, 0)], 3]
+
+[52]
+
+    >>> [nearest(scheme, "ca", ["abc", "cab", "a"], {"indel": 2, "swap": 1}), order_at(scheme, "ca", ["abc", "cab", "a"], {"indel": 2, "swap": 1})]
+    [['cab', 'a'], [['cab', 'a'], ['abc']]]
+
+[63]
+
+    >>> rows = [((1, -2), False), ((-1, 1), True)]
+    >>> [settle(2, rows)[0], shows_sum(2, rows, (1, 1)), shows_sum(2, rows, (1, 0)), keeps((3, 1), rows[0]), settle(2, rows[:1])[0]]
+    ['sum', True, False, True, 'costs']
 """
 
 
@@ -42,7 +84,7 @@ class ExamplesTest(unittest.TestCase):
         test = doctest.DocTestParser().get_doctest(EXAMPLES, names, "the document", None, 0)
         report = []
         results = doctest.DocTestRunner(verbose=False).run(test, out=report.append)
-        self.assertEqual((results.failed, results.attempted), (0, 5), "".join(report))
+        self.assertEqual((results.failed, results.attempted), (0, 18), "".join(report))
 
 
 if __name__ == "__main__":

@@ -30,6 +30,17 @@ LIBRARY = {
     "collections": ["defaultdict"],
 }
 FOLDED = ["all", "any", "max", "min", "sorted", "sum"]
+# What Python's own prompt and doctest bind is no builtin.
+TAKEN = [name for name in vars(builtins) if name != "_"]
+BARRED = (
+    "register mro elements open input law version_info with_traceback add_note attrgetter breakpoint builtins compile "
+    "copyright credits delattr dir eval exec exit gc globals help id importlib license locals methodcaller os quit "
+    "type vars sys"
+).split()
+BARRED_ATTRIBUTES = (
+    "items keys values pop update append clear extend insert remove reverse setdefault sort args encode decode hex "
+    "fromhex format"
+).split()
 
 
 def files():
@@ -90,6 +101,17 @@ class StatementsTest(unittest.TestCase):
             defined = [item.name for item in ast.parse(path.read_text()).body if hasattr(item, "name")]
             self.assertTrue(all(name.name in defined or name.name.isupper() for name in node.names), place)
 
+    def test_no_two_files_import_from_each_other(self):
+        uses = {}
+        for path in files():
+            modules = [node.module for node in ast.walk(ast.parse(path.read_text())) if isinstance(node, ast.ImportFrom)]
+            uses[path.stem] = [name.split(".")[1] for name in modules if name.startswith("seenchoices.")]
+        done = []
+        while len(done) < len(uses):
+            ready = [name for name in uses if name not in done and all(used in done for used in uses[name])]
+            self.assertTrue(ready, f"a circle of imports among {sorted(set(uses) - set(done))}")
+            done += ready
+
     def test_is_with_none_only(self):
         for node, place in walked(ast.Compare):
             if any(isinstance(sign, (ast.Is, ast.IsNot)) for sign in node.ops):
@@ -99,15 +121,39 @@ class StatementsTest(unittest.TestCase):
 class NamesTest(unittest.TestCase):
     def test_builtins(self):
         for node, place in walked(ast.Name):
-            if node.id in vars(builtins):
+            if node.id in TAKEN:
                 self.assertIn(node.id, BUILTINS, place)
                 self.assertIsInstance(node.ctx, ast.Load, place)
 
     def test_no_own_name_is_a_builtin(self):
         for node, place in walked((ast.FunctionDef, ast.ClassDef)):
-            self.assertNotIn(node.name, vars(builtins), place)
+            self.assertNotIn(node.name, TAKEN + BARRED, place)
         for node, place in walked(ast.arg):
-            self.assertNotIn(node.arg, vars(builtins), place)
+            self.assertNotIn(node.arg, TAKEN + BARRED, place)
+        for node, place in walked(ast.Name):
+            self.assertNotIn(node.id, BARRED, place)
+
+    def test_no_local_name_is_an_import_or_a_class_or_a_function(self):
+        for path in files():
+            tree = ast.parse(path.read_text())
+            outer = [item.name for item in tree.body if hasattr(item, "name")]
+            outer += [name.name for item in tree.body if isinstance(item, ast.ImportFrom) for name in item.names]
+            self.assertEqual(len(set(outer)), len(outer), path.name)
+            inner = [node.arg for node in ast.walk(tree) if isinstance(node, ast.arg)]
+            inner += [node.id for node in ast.walk(tree)
+                      if isinstance(node, ast.Name) and isinstance(node.ctx, ast.Store)]
+            self.assertEqual([name for name in inner if name in outer], [], path.name)
+
+    def test_attributes(self):
+        for node, place in walked(ast.Attribute):
+            if isinstance(node.ctx, ast.Store):
+                self.assertNotIn(node.attr, BARRED_ATTRIBUTES, place)
+
+    def test_generators_have_names_of_their_own(self):
+        found = [node.name for node, _ in walked(ast.FunctionDef)]
+        for node, place in walked(ast.FunctionDef):
+            if any(isinstance(part, (ast.Yield, ast.YieldFrom)) for part in ast.walk(node)):
+                self.assertEqual(found.count(node.name), 1, place)
 
     def test_methods(self):
         own = [node.name for node, _ in walked(ast.FunctionDef)]
