@@ -1,5 +1,6 @@
 """Rows of numbers: positive integers that keep all of them, or a sum of them that shows that there are none."""
 
+from seenchoices.corners import UNIT_ROWS, row_in_four, settled, unit_corner
 from seenchoices.errors import InvalidInteger, InvalidPart, InvalidRow
 from seenchoices.schemes import MOST_COSTS, is_cost_number
 from seenchoices.words import is_integer, is_list, is_whole, is_whole_list, scaled, weighed
@@ -23,11 +24,6 @@ def check_number_rows(many, rows):
             raise InvalidRow(row)
 
 
-def is_kept(row, numbers, size):
-    """True if these numbers, divided by a size, keep a row; strict rows ask for a sum of 1 or more."""
-    return weighed(row[0], numbers) >= (size if row[1] else 0)
-
-
 def keeps(numbers, row):
     """True if a tuple of integers from 1 on keeps a row."""
     if not is_list(numbers) or not 1 <= len(numbers) <= MOST_COSTS:
@@ -36,76 +32,19 @@ def keeps(numbers, row):
         raise InvalidPart(numbers)
     if not is_number_row(len(numbers), row):
         raise InvalidRow(row)
-    return is_kept(row, numbers, 1)
-
-
-def unit_columns(many):
-    """The tuples of zeros with a single 1, at each place in turn."""
-    return [tuple([1 if at == place else 0 for at in range(many)]) for place in range(many)]
-
-
-def first_not_kept(rows, numbers, size):
-    """The index of the first row that these numbers, divided by a size, do not keep, or None."""
-    for index, row in enumerate(rows):
-        if not is_kept(row, numbers, size):
-            return index
-    return None
-
-
-def point_of(rows, tight, columns):
-    """The point at which the rows told by their indices are tight, times the size that belongs to the columns."""
-    strict = [column for index, column in zip(tight, columns) if rows[index][1]]
-    return tuple([sum([column[place] for column in strict]) for place in range(len(columns))])
-
-
-def leaving_place(tight, weights):
-    """The place of the tight row that makes way for another one, or None."""
-    found = [(index, place) for place, index in enumerate(tight) if weights[place] > 0]
-    return min(found)[1] if found else None
-
-
-def exchanged(columns, weights, leaving, size):
-    """The columns after the exchange of a tight row for the row that has these weights; their size is its weight."""
-    weight = weights[leaving]
-    found = []
-    for place, column in enumerate(columns):
-        pairs = list(zip(column, columns[leaving]))
-        # The division leaves no rest: what it gives are determinants of numbers of the tight rows.
-        changed = [(weight * number - weights[place] * other) // size for number, other in pairs]
-        found.append(column if place == leaving else tuple(changed))
-    return found
+    return weighed(row[0], numbers) >= (1 if row[1] else 0)
 
 
 def settle(many, rows):
-    """Integers from 1 on that keep all rows, or amounts of the rows that show that there are none.
-
-    The search goes from one point to the next. At each of them as many rows as there are costs are tight: their sum is
-    0, or 1 if they are strict. At first these are added rows that ask each integer to be 1 or more. The columns are
-    the inverse of the matrix of the tight rows, times its determinant, the size.
-
-    A row that is not kept is a sum of the tight rows, each times its weight. If no weight is greater than 0, the rows
-    contradict each other. Otherwise the row takes the place of a tight one with such a weight. Both are the first ones
-    by index that are possible (Bland's rule), so no choice of tight rows comes twice, and the search ends.
-    """
+    """Integers from 1 on that keep all rows, or amounts of the rows that show that there are none."""
     check_number_rows(many, rows)
-    columns = unit_columns(many)
-    known = list(rows) + [(column, True) for column in columns]
-    tight = list(range(len(rows), len(known)))
-    size = 1
-    while True:
-        point = point_of(known, tight, columns)
-        missed = first_not_kept(known, point, size)
-        if missed is None:
-            return ("costs", scaled(point))
-        weights = [weighed(known[missed][0], column) for column in columns]
-        place = leaving_place(tight, weights)
-        if place is None:
-            amounts = {index: -weight for index, weight in zip(tight, weights)}
-            amounts[missed] = size
-            return ("sum", scaled(tuple([amounts.get(index, 0) for index in range(len(rows))])))
-        columns = exchanged(columns, weights, place, size)
-        size = weights[place]
-        tight[place] = missed
+    # The unit rows stand last, so the rows that were passed keep their indices.
+    known = [row_in_four(numbers, strict) for numbers, strict in rows] + list(UNIT_ROWS)
+    _, point, found = settled(known, unit_corner(len(rows)))
+    if found is None:
+        return ("costs", scaled(point[:many]))
+    amounts = dict(found)
+    return ("sum", scaled(tuple([amounts.get(index, 0) for index in range(len(rows))])))
 
 
 def summed(many, rows, amounts):

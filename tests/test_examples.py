@@ -3,9 +3,9 @@
 import doctest
 import unittest
 
-from seenchoices import counts, distances, rows, schemes, systems, words
+from seenchoices import choices, counts, distances, rows, schemes, sure, systems, wordlists, words
 
-MODULES = [words, schemes, rows, counts, distances, systems]
+MODULES = [words, schemes, rows, counts, distances, systems, choices, sure, wordlists]
 
 EXAMPLES = r"""
 [13]
@@ -73,6 +73,44 @@ EXAMPLES = r"""
     >>> rows = [((1, -2), False), ((-1, 1), True)]
     >>> [settle(2, rows)[0], shows_sum(2, rows, (1, 1)), shows_sum(2, rows, (1, 0)), keeps((3, 1), rows[0]), settle(2, rows[:1])[0]]
     ['sum', True, False, True, 'costs']
+
+[72]
+
+    >>> scheme = Scheme(["edit", "swap"], add="edit", drop="edit", swap="swap")
+    >>> choice = ("horse", "hose", "house", False)
+    >>> [choice_holds(scheme, choice, {"edit": 1, "swap": 1}), choice_holds(scheme, choice, {"edit": 3, "swap": 1}), fact_holds(scheme, ((2, -1), True), {"edit": 1, "swap": 2})]
+    [True, False, False]
+
+[74]
+
+    >>> facts = [((1, -2), False)]
+    >>> [explained(scheme, facts, [choice])[0], conflict(scheme, facts, [choice, ("a", "", "b", True)]), explained(scheme, [], [choice])[0]]
+    ['tree', ([0], [1]), 'costs']
+
+[81]
+
+    >>> scheme = Scheme(["edit", "swap"], add="edit", drop="edit", swap="swap")
+    >>> [relations(scheme, "horse", "hose", "house"), relations(scheme, "horse", "hose", "house", facts=[((-1, 1), True)]), relations(scheme, "ab", "abc", "ab")]
+    [['nearer', 'same', 'farther'], ['nearer'], ['farther']]
+
+[83]
+
+    >>> [never_farther(scheme, "horse", "hose", "house", facts=[((-1, 1), False)]), follows(scheme, ((-2, 3), True), choices=[("horse", "hose", "house", False)])]
+    [True, True]
+    >>> bounds(scheme, "swap", "edit", facts=[((-3, 1), False), ((7, -2), True)])
+    (3, 4)
+
+[92]
+
+    >>> scheme = Scheme(["indel", "swap"], add="indel", drop="indel", swap="swap")
+    >>> words = WordList(scheme, ["hose", "house", "worse"])
+    >>> [words.can_be_nearest("horse"), words.can_be_nearest("horse", facts=[((1, -1), True)]), words.surely_nearest("horse", facts=[((1, -1), True)])]
+    [['hose', 'house', 'worse'], ['house', 'worse'], ['house', 'worse']]
+
+[93]
+
+    >>> [found for found, costs in words.nearest_sets("horse")]
+    [['hose'], ['house', 'worse'], ['hose', 'house', 'worse']]
 """
 
 
@@ -84,7 +122,7 @@ class ExamplesTest(unittest.TestCase):
         test = doctest.DocTestParser().get_doctest(EXAMPLES, names, "the document", None, 0)
         report = []
         results = doctest.DocTestRunner(verbose=False).run(test, out=report.append)
-        self.assertEqual((results.failed, results.attempted), (0, 18), "".join(report))
+        self.assertEqual((results.failed, results.attempted), (0, 31), "".join(report))
 
 
 if __name__ == "__main__":

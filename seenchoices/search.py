@@ -1,0 +1,130 @@
+"""The search for a point at which choices hold, or for the cases that show that there is none.
+
+A fork is a choice made ready for the search: it holds at a point if all rows of one of its cases are kept there. A
+proof is `("sum", terms)` or `("case", place, proofs)`, as the rows of a tree are, but with the proofs themselves in the
+place of their indices.
+"""
+
+from seenchoices.corners import UNIT_ROWS, settled, unit_corner
+
+MANY_CASES = 1000
+
+
+class Fork:
+    """The minimal counts of the two words of a choice, in four places; the place is the index of the choice."""
+
+    def __init__(self, place, firsts, others, strict):
+        self.place = place
+        self.firsts = firsts
+        self.others = others
+        self.strict = strict
+        self.made = {}
+
+    def holds(self, point):
+        """True if the choice holds at a point."""
+        first = min(prices_at(self.firsts, point))
+        other = min(prices_at(self.others, point))
+        return first < other if self.strict else first <= other
+
+    def case_rows(self, case):
+        """The rows of a case; they are made when they are asked for the first time."""
+        if case not in self.made:
+            a, b, c, d = self.firsts[case]
+            strict = 1 if self.strict else 0
+            self.made[case] = [(w - a, x - b, y - c, z - d, strict) for w, x, y, z in self.others]
+        return self.made[case]
+
+    def case_sources(self):
+        """For each row of a case what it stands for: the index of the choice and counts, in four places."""
+        return [("choice", self.place, counts) for counts in self.others]
+
+
+def prices_at(found, point):
+    """The prices of counts at a point."""
+    w, x, y, z = point
+    return [a * w + b * x + c * y + d * z for a, b, c, d in found]
+
+
+class Path:
+    """Rows that all have to be kept, and what each of them stands for (None for the unit rows).
+
+    If they can be kept, point tells where, and amounts is None. Otherwise amounts shows that they cannot.
+    """
+
+    def __init__(self, rows, sources, corner):
+        self.rows = rows
+        self.sources = sources
+        self.corner, self.point, self.amounts = settled(rows, corner)
+
+    def longer(self, rows, sources):
+        """A path with more rows, which are sought from the corner where this one ended."""
+        return Path(self.rows + rows, self.sources + sources, self.corner)
+
+    def proof(self):
+        """The sum of rows which shows that they cannot be kept."""
+        terms = [(self.sources[index], amount) for index, amount in self.amounts]
+        return ("sum", [(source, amount) for source, amount in terms if source is not None])
+
+
+def first_path():
+    """The path of the unit rows alone."""
+    return Path(list(UNIT_ROWS), [None, None, None, None], unit_corner(0))
+
+
+def uses(proof, place):
+    """True if a proof uses the case of a choice that was taken before it."""
+    if proof[0] == "sum":
+        return any([source[0] == "choice" and source[1] == place for source, _ in proof[1]])
+    return any([uses(part, place) for part in proof[2]])
+
+
+def case_paths(path, fork, most):
+    """The path of each case of a fork, or None if more than so many of them can go on."""
+    found = []
+    many = 0
+    sources = fork.case_sources()
+    for case in range(len(fork.firsts)):
+        found.append(path.longer(fork.case_rows(case), sources))
+        if found[case].amounts is None:
+            many += 1
+        if many > most:
+            return None
+    return found
+
+
+def narrowest(path, forks):
+    """The fork with the fewest cases that can go on behind a path, and the path of each of its cases."""
+    best = None
+    least = MANY_CASES
+    for fork in forks:
+        paths = case_paths(path, fork, least - 1)
+        if paths is not None:
+            best = (fork, paths)
+            least = len([longer for longer in paths if longer.amounts is None])
+        if least == 0:
+            break
+    return best
+
+
+def in_order(paths, prices):
+    """The cases in the order in which they are tried: what cannot go on first, then the cheaper ones."""
+    return sorted(range(len(paths)), key=lambda case: (paths[case].amounts is None, prices[case]))
+
+
+def closed(path, forks):
+    """A point behind a path at which all forks hold, and None; or None and a proof that there is none."""
+    if path.amounts is not None:
+        return (None, path.proof())
+    broken = [fork for fork in forks if not fork.holds(path.point)]
+    if not broken:
+        return (path.point, None)
+    fork, paths = narrowest(path, broken)
+    rest = [other for other in forks if other.place != fork.place]
+    proofs = {}
+    for case in in_order(paths, prices_at(fork.firsts, path.point)):
+        point, proof = closed(paths[case], rest)
+        # What does not use the case shows the same for all cases.
+        if point is not None or not uses(proof, fork.place):
+            return (point, proof)
+        proofs[case] = proof
+    return (None, ("case", fork.place, [proofs[case] for case in range(len(paths))]))
