@@ -3,7 +3,7 @@
 from seenchoices.corners import in_four, row_in_four
 from seenchoices.counts import minimal_counts
 from seenchoices.schemes import costs_of
-from seenchoices.search import Fork, closed, first_path
+from seenchoices.search import Comparison, Fork, closed, first_path, prices_at, reached
 from seenchoices.trees import tree_of
 from seenchoices.words import scaled
 
@@ -13,6 +13,11 @@ def is_kept_at(row, point):
     a, b, c, d, strict = row
     w, x, y, z = point
     return a * w + b * x + c * y + d * z >= strict
+
+
+def all_hold_at(rows, forks, point):
+    """True if rows in four places are kept and forks hold at a point."""
+    return all([is_kept_at(row, point) for row in rows]) and all([fork.holds(point) for fork in forks])
 
 
 def parts_of(proof):
@@ -34,72 +39,101 @@ class Knowledge:
     def __init__(self, scheme, facts, choices):
         self.costs_in = scheme
         self.many = len(scheme)
-        self.table = {}
+        self.known_counts = {}
+        self.comparisons = {}
         self.points = []
+        self.known_choices = choices
         self.fact_rows = [row_in_four(numbers, strict) for numbers, strict in facts]
         self.fact_path = first_path().longer(self.fact_rows, [("fact", index) for index in range(len(facts))])
-        self.forks = self.more_forks(choices, 0)
+        self.known_forks = self.joined_forks(choices, 0)
 
     def counts(self, one, other):
         """The minimal counts of two words, in four places."""
-        if (one, other) not in self.table:
-            self.table[(one, other)] = [in_four(counts) for counts in minimal_counts(self.costs_in, one, other)]
-        return self.table[(one, other)]
+        if (one, other) not in self.known_counts:
+            found = minimal_counts(self.costs_in, one, other)
+            self.known_counts[(one, other)] = [in_four(counts) for counts in found]
+        return self.known_counts[(one, other)]
 
-    def more_forks(self, choices, place):
-        """The choices as forks, the first of which has this place."""
-        found = []
-        for target, one, other, strict in choices:
-            found.append(Fork(place + len(found), self.counts(one, target), self.counts(other, target), strict))
-        return found
+    def distance_at(self, word, target, point):
+        """The distance from a word to a target at a point."""
+        return min(prices_at(self.counts(word, target), point))
 
-    def closed_with(self, facts, choices):
-        """What the search tells of everything that is known, of more facts and of more choices."""
-        rows = [row_in_four(numbers, strict) for numbers, strict in facts]
-        forks = self.more_forks(choices, len(self.forks))
-        for point in self.points:
-            if all([is_kept_at(row, point) for row in rows]) and all([fork.holds(point) for fork in forks]):
-                return (point, None)
+    def comparison(self, choice):
+        """The comparison that a choice is."""
+        key = tuple(choice)
+        if key not in self.comparisons:
+            target, one, other, strict = choice
+            firsts = self.counts(one, target)
+            self.comparisons[key] = Comparison(firsts, self.counts(other, target), strict, self.fact_path)
+        return self.comparisons[key]
+
+    def joined_forks(self, choices, place):
+        """Forks that hold where the choices hold, a single one for all choices with the same target and one word.
+
+        They are enough where no tree is asked for, in which each choice has a case of its own. The first one has this
+        place.
+        """
+        joined = {}
+        for choice in choices:
+            joined.setdefault((choice[0], choice[1]), []).append(self.comparison(choice))
+        return [Fork(place + at, comparisons) for at, comparisons in enumerate(joined.values())]
+
+    def new_point(self, facts, choices):
+        """A point at which everything that is known holds, with more facts and choices, or None."""
         path = self.fact_path
-        if rows and path.amounts is None:
-            path = path.longer(rows, [("fact", len(self.fact_rows) + index) for index in range(len(rows))])
-        point, proof = closed(path, self.forks + forks)
-        if point is not None:
-            self.points.append(point)
-        return (point, proof)
+        if facts and path.amounts is None:
+            path = path.longer([row_in_four(numbers, strict) for numbers, strict in facts])
+        return reached(path, self.known_forks + self.joined_forks(choices, len(self.known_forks)))
+
+    def point_with(self, facts, choices):
+        """What new_point tells, if no point that was found before does."""
+        rows = [row_in_four(numbers, strict) for numbers, strict in facts]
+        forks = self.joined_forks(choices, 0)
+        for point in self.points:
+            if all_hold_at(rows, forks, point):
+                return point
+        found = self.new_point(facts, choices)
+        if found is not None:
+            self.points.append(found)
+        return found
 
     def is_possible(self, facts, choices):
         """True if more facts and choices can hold together with what is known."""
-        return self.closed_with(facts, choices)[0] is not None
+        return self.point_with(facts, choices) is not None
 
     def costs_at(self, point):
         """The costs, a dict, at a point."""
         return costs_of(self.costs_in, scaled(point[:self.many]))
 
+    def single_forks(self, choices):
+        """A fork for each choice."""
+        return [Fork(place, [self.comparison(choice)]) for place, choice in enumerate(choices)]
+
     def answer_with(self, choices):
         """Costs at which more choices hold together with what is known, or a tree that shows that there are none."""
-        point, proof = self.closed_with((), choices)
+        point, proof = closed(self.fact_path, self.single_forks([*self.known_choices, *choices]))
         if proof is None:
             return ("costs", self.costs_at(point))
         return ("tree", tree_of(proof, self.many))
 
-    def proof_of(self, parts):
+    def proof_against(self, parts, forks):
         """A proof that these facts and choices, told as parts_of tells them, cannot hold together, or None."""
         facts = [index for word, index in parts if word == "fact"]
         path = first_path().longer([self.fact_rows[index] for index in facts], [("fact", index) for index in facts])
-        return closed(path, [self.forks[index] for word, index in parts if word == "choice"])[1]
+        return closed(path, [forks[index] for word, index in parts if word == "choice"])[1]
 
     def conflicting_parts(self):
         """The parts that cannot hold together while any fewer of them can, or None."""
+        forks = self.single_forks(self.known_choices)
         kept = [("fact", index) for index in range(len(self.fact_rows))]
-        kept.extend([("choice", index) for index in range(len(self.forks))])
-        proof = self.proof_of(kept)
+        kept.extend([("choice", index) for index in range(len(forks))])
+        proof = self.proof_against(kept, forks)
         if proof is None:
             return None
         for part in list(kept):
             fewer = [other for other in kept if other != part]
             # What the proof does not use is left out without a search: the proof stays right.
-            other_proof = self.proof_of(fewer) if part in parts_of(proof) else proof
+            other_proof = self.proof_against(fewer, forks) if part in parts_of(proof) else proof
             if other_proof is not None:
                 kept = fewer
                 proof = other_proof

@@ -1,42 +1,12 @@
 """The search for a point at which choices hold, or for the cases that show that there is none.
 
-A fork is a choice made ready for the search: it holds at a point if all rows of one of its cases are kept there. A
-proof is `("sum", terms)` or `("case", place, proofs)`, as the rows of a tree are, but with the proofs themselves in the
-place of their indices.
+A proof is `("sum", terms)` or `("case", place, proofs)`, as the rows of a tree are, but with the proofs themselves in
+the place of their indices.
 """
 
 from seenchoices.corners import UNIT_ROWS, settled, unit_corner
 
 MANY_CASES = 1000
-
-
-class Fork:
-    """The minimal counts of the two words of a choice, in four places; the place is the index of the choice."""
-
-    def __init__(self, place, firsts, others, strict):
-        self.place = place
-        self.firsts = firsts
-        self.others = others
-        self.strict = strict
-        self.made = {}
-
-    def holds(self, point):
-        """True if the choice holds at a point."""
-        first = min(prices_at(self.firsts, point))
-        other = min(prices_at(self.others, point))
-        return first < other if self.strict else first <= other
-
-    def case_rows(self, case):
-        """The rows of a case; they are made when they are asked for the first time."""
-        if case not in self.made:
-            a, b, c, d = self.firsts[case]
-            strict = 1 if self.strict else 0
-            self.made[case] = [(w - a, x - b, y - c, z - d, strict) for w, x, y, z in self.others]
-        return self.made[case]
-
-    def case_sources(self):
-        """For each row of a case what it stands for: the index of the choice and counts, in four places."""
-        return [("choice", self.place, counts) for counts in self.others]
 
 
 def prices_at(found, point):
@@ -45,30 +15,108 @@ def prices_at(found, point):
     return [a * w + b * x + c * y + d * z for a, b, c, d in found]
 
 
+class Comparison:
+    """The minimal counts of two words, in four places, the first of which shall be not farther, or nearer if strict.
+
+    The base is the path of the facts alone.
+    """
+
+    def __init__(self, firsts, others, strict, base):
+        self.firsts = firsts
+        self.others = others
+        self.strict = 1 if strict else 0
+        self.base = base
+        self.made = {}
+        self.open_places = None
+
+    def case_rows(self, case):
+        """The rows of a case; they are made when they are asked for the first time."""
+        if case not in self.made:
+            a, b, c, d = self.firsts[case]
+            strict = self.strict
+            self.made[case] = [(w - a, x - b, y - c, z - d, strict) for w, x, y, z in self.others]
+        return self.made[case]
+
+    def open_cases(self):
+        """The cases that can go on behind the facts; they are sought when they are asked for the first time."""
+        if self.open_places is None:
+            paths = [self.base.longer(self.case_rows(case)) for case in range(len(self.firsts))]
+            self.open_places = [case for case, path in enumerate(paths) if path.amounts is None]
+        return self.open_places
+
+
+class Fork:
+    """Comparisons of one word to others, all about the same target.
+
+    They hold at a point if all rows of one of their cases are kept there: of the case of what is cheapest there. The
+    place is the index of the choice that a single comparison stands for.
+    """
+
+    def __init__(self, place, comparisons):
+        self.place = place
+        self.comparisons = comparisons
+        self.firsts = comparisons[0].firsts
+
+    def holds(self, point):
+        """True if the comparisons hold at a point."""
+        first = min(prices_at(self.firsts, point))
+        for comparison in self.comparisons:
+            if first + comparison.strict > min(prices_at(comparison.others, point)):
+                return False
+        return True
+
+    def case_rows(self, case):
+        """The rows of a case."""
+        return [row for comparison in self.comparisons for row in comparison.case_rows(case)]
+
+    def case_sources(self):
+        """For each row of a case what it stands for: the index of the choice and counts, in four places."""
+        return [("choice", self.place, counts) for comparison in self.comparisons for counts in comparison.others]
+
+    def open_cases(self):
+        """The cases that can go on behind the facts for each of the comparisons alone."""
+        found = self.comparisons[0].open_cases()
+        for comparison in self.comparisons[1:]:
+            found = [case for case in found if case in comparison.open_cases()]
+        return found
+
+
 class Path:
     """Rows that all have to be kept, and what each of them stands for (None for the unit rows).
 
     If they can be kept, point tells where, and amounts is None. Otherwise amounts shows that they cannot.
     """
 
-    def __init__(self, rows, sources, corner):
-        self.rows = rows
+    def __init__(self, before, rows, sources):
+        self.before = before
         self.sources = sources
-        self.corner, self.point, self.amounts = settled(rows, corner)
+        self.rows = before.rows + rows if before is not None else rows
+        corner = before.corner if before is not None else unit_corner(0)
+        self.corner, self.point, self.amounts = settled(self.rows, corner)
 
-    def longer(self, rows, sources):
-        """A path with more rows, which are sought from the corner where this one ended."""
-        return Path(self.rows + rows, self.sources + sources, self.corner)
+    def longer(self, rows, sources=()):
+        """A path with more rows, which starts from the corner where this one ended.
+
+        The sources are needed if the proof will be asked for.
+        """
+        return Path(self, rows, sources)
+
+    def all_sources(self):
+        """What each of all rows stands for."""
+        if self.before is None:
+            return list(self.sources)
+        return [*self.before.all_sources(), *self.sources]
 
     def proof(self):
         """The sum of rows which shows that they cannot be kept."""
-        terms = [(self.sources[index], amount) for index, amount in self.amounts]
+        sources = self.all_sources()
+        terms = [(sources[index], amount) for index, amount in self.amounts]
         return ("sum", [(source, amount) for source, amount in terms if source is not None])
 
 
 def first_path():
     """The path of the unit rows alone."""
-    return Path(list(UNIT_ROWS), [None, None, None, None], unit_corner(0))
+    return Path(None, list(UNIT_ROWS), [None, None, None, None])
 
 
 def uses(proof, place):
@@ -128,3 +176,21 @@ def closed(path, forks):
             return (point, proof)
         proofs[case] = proof
     return (None, ("case", fork.place, [proofs[case] for case in range(len(paths))]))
+
+
+def reached(path, forks):
+    """A point behind a path at which all forks hold, or None: what closed tells without a proof, and sooner."""
+    if path.amounts is not None:
+        return None
+    broken = [fork for fork in forks if not fork.holds(path.point)]
+    if not broken:
+        return path.point
+    many = [len(fork.open_cases()) for fork in broken]
+    fork = broken[many.index(min(many))]
+    rest = [other for other in forks if other.place != fork.place]
+    prices = prices_at(fork.firsts, path.point)
+    for case in sorted(fork.open_cases(), key=lambda case: prices[case]):
+        point = reached(path.longer(fork.case_rows(case)), rest)
+        if point is not None:
+            return point
+    return None

@@ -28,6 +28,11 @@ def choices_for_set(words, target, chosen):
     return same + [(target, first, other, True) for other in words if other not in chosen]
 
 
+def possible_words(known, words, target):
+    """The words that can be nearest to a target."""
+    return [word for word in words if known.is_possible((), choices_for_nearest(words, target, word))]
+
+
 def is_surely_nearest(known, words, target, word):
     """True if no other word can be nearer to a target than the word is."""
     for other in words:
@@ -83,9 +88,7 @@ class WordList:
         """The words that are nearest to the target at some costs at which the facts and choices hold."""
         check_word(target)
         check_known(self._scheme, facts, choices)
-        known = Knowledge(self._scheme, facts, choices)
-        return [word for word in self._words
-                if known.is_possible((), choices_for_nearest(self._words, target, word))]
+        return possible_words(Knowledge(self._scheme, facts, choices), self._words, target)
 
     def surely_nearest(self, target, *, facts=(), choices=()):
         """The words that are nearest to the target at all costs at which the facts and choices hold."""
@@ -109,8 +112,8 @@ class WordList:
         check_known(self._scheme, facts, choices)
         known = Knowledge(self._scheme, facts, choices)
         found = []
-        for chosen in sets_of(self.can_be_nearest(target, facts=facts, choices=choices)):
-            point, _ = known.closed_with((), choices_for_set(self._words, target, chosen))
+        for chosen in sets_of(possible_words(known, self._words, target)):
+            point = known.point_with((), choices_for_set(self._words, target, chosen))
             if point is not None:
                 found.append((chosen, known.costs_at(point)))
         return found

@@ -3,9 +3,11 @@
 import doctest
 import unittest
 
-from seenchoices import choices, counts, distances, rows, schemes, sure, systems, wordlists, words
+from seenchoices import (
+    choices, counts, distances, kinds, orders, rows, schemes, session, sure, systems, texts, wordlists, words,
+)
 
-MODULES = [words, schemes, rows, counts, distances, systems, choices, sure, wordlists]
+MODULES = [words, schemes, rows, counts, distances, systems, choices, sure, wordlists, orders, kinds, texts, session]
 
 EXAMPLES = r"""
 [13]
@@ -111,6 +113,45 @@ EXAMPLES = r"""
 
     >>> [found for found, costs in words.nearest_sets("horse")]
     [['hose'], ['house', 'worse'], ['hose', 'house', 'worse']]
+
+[102]
+
+    >>> scheme = Scheme(["indel", "swap"], add="indel", drop="indel", swap="swap")
+    >>> words = WordList(scheme, ["hose", "house"])
+    >>> order_list(words, "horse")
+    [[['hose', 'house']], [['hose'], ['house']], [['house'], ['hose']]]
+
+[104]
+
+    >>> [ranks(words, "horse", "hose"), ranks(words, "horse", "hose", facts=[((1, -1), True)]), sure_order(words, "horse", facts=[((1, -1), True)])]
+    [[0, 1], [1], [('hose', 'farther', 'house')]]
+
+[111]
+
+    >>> scheme = Scheme(["indel", "swap"], add="indel", drop="indel", swap="swap")
+    >>> other = Scheme(["indel", "swap"], add="indel", drop="indel", swap="swap", turn="indel")
+    >>> [alike(scheme, other, ["ab", "a"]), alike(scheme, other, ["ab", "ba"]), alike(scheme, other, ["ab", "ba"], facts=[((1, -2), False)])]
+    [True, False, True]
+
+[112]
+
+    >>> [needless_kinds(scheme, ["ab", "ba"]), needless_kinds(scheme, ["ab", "cd"], facts=[((-2, 1), False)])]
+    [['near', 'turn'], ['swap', 'near', 'far', 'turn']]
+
+[123]
+
+    >>> scheme = scheme_of("costs edit near turn\nadd edit\ndrop edit\nswap edit\ngroup ea near\nturn turn")
+    >>> [scheme_text(scheme).split("\n")[4], fact_text(scheme, ((2, -1, 0), True)), fact_of(scheme, "0 >= edit + 3 turn"), choice_text(("", "a", "", False))]
+    ['group ae near', '2 edit > near', ((-1, 0, -3), False), '-: a <= -']
+
+[134]
+
+    >>> session = Session(Scheme(["edit", "swap"], add="edit", drop="edit", swap="swap"))
+    >>> [session.say("relation horse hose house"), session.say("choice horse: hose < house"), session.say("relation horse hose house"), session.say("bounds swap edit")]
+    [['nearer', 'same', 'farther'], [], ['nearer'], ['1 -']]
+    >>> session.say("fact edit >= swap")
+    Traceback (most recent call last):
+    seenchoices.errors.NotPossible: facts and choices cannot hold together
 """
 
 
@@ -122,7 +163,7 @@ class ExamplesTest(unittest.TestCase):
         test = doctest.DocTestParser().get_doctest(EXAMPLES, names, "the document", None, 0)
         report = []
         results = doctest.DocTestRunner(verbose=False).run(test, out=report.append)
-        self.assertEqual((results.failed, results.attempted), (0, 31), "".join(report))
+        self.assertEqual((results.failed, results.attempted), (0, 44), "".join(report))
 
 
 if __name__ == "__main__":

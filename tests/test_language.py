@@ -20,7 +20,7 @@ BUILTINS = (
 METHODS = (
     "append clear copy count endswith extend find get index insert isalnum isalpha isdigit islower isspace isupper "
     "items join keys ljust lower lstrip partition pop remove replace reverse rfind rjust rpartition rsplit rstrip "
-    "setdefault split splitlines startswith strip update upper values zfill bit_length __init__ add discard"
+    "setdefault split splitlines startswith strip update upper values zfill bit_length isdecimal __init__ add discard"
 ).split()
 LIBRARY = {
     "heapq": ["heapify", "heappop", "heappush", "heappushpop", "heapreplace"],
@@ -104,7 +104,8 @@ class StatementsTest(unittest.TestCase):
     def test_no_two_files_import_from_each_other(self):
         uses = {}
         for path in files():
-            modules = [node.module for node in ast.walk(ast.parse(path.read_text())) if isinstance(node, ast.ImportFrom)]
+            nodes = ast.walk(ast.parse(path.read_text()))
+            modules = [node.module for node in nodes if isinstance(node, ast.ImportFrom)]
             uses[path.stem] = [name.split(".")[1] for name in modules if name.startswith("seenchoices.")]
         done = []
         while len(done) < len(uses):

@@ -214,8 +214,9 @@ class ShowsTreeTest(unittest.TestCase):
     def test_sums_of_facts(self):
         facts = [((1, -2), False), ((-1, 1), False), ((-1, 2), True)]
         one, two, three = ("fact", 0), ("fact", 1), ("fact", 2)
-        for terms, expected in [([(one, 1), (two, 1)], True), ([(one, 1), (two, 2)], True), ([(one, 2), (two, 1)], False),
-                                ([(one, 1), (three, 1)], True), ([(one, 1), (three, 2)], False), ([(one, 1)], False),
+        for terms, expected in [([(one, 1), (two, 1)], True), ([(one, 1), (two, 2)], True),
+                                ([(one, 2), (two, 1)], False), ([(one, 1), (three, 1)], True),
+                                ([(one, 1), (three, 2)], False), ([(one, 1)], False),
                                 ([(two, 1)], False), ([(one, 7), (three, 7)], True), ([], False),
                                 ([(one, 1), (two, 1), (one, 1)], False), ([(one, 1), (two, 0)], False),
                                 ([(one, 1), (two, 1), (three, 0)], False), ([(one, True), (two, 1)], False),

@@ -68,8 +68,8 @@ class WordListTest(unittest.TestCase):
         other = Scheme(["edit", "near", "turn"], add="edit", drop="edit", swap="near", turn="turn")
         self.assertTrue(found == WordList(plain_scheme(), ("b", "a")))
         self.assertFalse(found != WordList(plain_scheme(), ("b", "a")))
-        for value in [WordList(plain_scheme(), ["a", "b"]), WordList(plain_scheme(), ["b"]), WordList(other, ["b", "a"]),
-                      ("b", "a"), ["b", "a"], plain_scheme(), None, "ba"]:
+        for value in [WordList(plain_scheme(), ["a", "b"]), WordList(plain_scheme(), ["b"]),
+                      WordList(other, ["b", "a"]), ("b", "a"), ["b", "a"], plain_scheme(), None, "ba"]:
             self.assertFalse(found == value)
             self.assertTrue(found != value)
 
