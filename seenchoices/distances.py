@@ -1,6 +1,6 @@
 """Distances between words at told costs."""
 
-from seenchoices.counts import minimal_counts, row_numbers, row_with
+from seenchoices.counts import minimal_counts, numbers_with, row_with
 from seenchoices.rows import check_pair
 from seenchoices.schemes import check_scheme, numbers_of
 from seenchoices.words import check_word, check_words, weighed
@@ -26,16 +26,16 @@ def cheapest_counts(scheme, one, other, costs):
     """The ascending list of the different counts of the edit rows of the smallest price."""
     check_pair(scheme, one, other)
     numbers = numbers_of(scheme, costs)
-    least = smallest_price(scheme, one, other, numbers)
     # Each cost is at least 1, so counts that are not minimal have a greater price.
-    return [counts for counts in minimal_counts(scheme, one, other) if weighed(counts, numbers) == least]
+    found = minimal_counts(scheme, one, other)
+    prices = [weighed(counts, numbers) for counts in found]
+    least = min(prices)
+    return [counts for counts, worth in zip(found, prices) if worth == least]
 
 
 def cheapest_many(scheme, one, other, costs):
     """How many edit rows have the smallest price."""
-    found = cheapest_counts(scheme, one, other, costs)
-    table = row_numbers(scheme, one, other)
-    return sum([table[counts] for counts in found])
+    return sum(numbers_with(scheme, one, other, cheapest_counts(scheme, one, other, costs)))
 
 
 def checked_distances(scheme, target, words, costs):

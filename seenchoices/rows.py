@@ -1,8 +1,12 @@
 """Edit rows: steps that write a word while they read another one."""
 
 from seenchoices.errors import InvalidEdits
+from seenchoices.grids import Steps, number_grid
 from seenchoices.schemes import check_scheme, is_step
 from seenchoices.words import LONGEST_WORD, check_word, is_list
+
+# Where so few letters of two words are left, together, the ends of edit rows are made only once.
+FEW_LETTERS = 6
 
 
 def check_pair(scheme, one, other):
@@ -102,42 +106,56 @@ def mirrored(scheme, word, row):
     return [step for step, _, _ in reversed(checked_trace(scheme, word, row))]
 
 
-def moves(scheme, one, other, at, to):
-    """Each step that can stand between these places of two words, with the letters that it meets and writes."""
-    letter = other[to:to + 1]
+def next_steps(scheme, one, other, at, to):
+    """Each step that can stand between these places of two words, and the places behind it."""
     found = []
-    for step in [("keep",), ("drop",), ("add", letter), ("swap", letter), ("turn",)]:
-        letters = met_letters(scheme, one, at, step)
-        if letters is None:
-            continue
-        wrote = written_letters(step, letters)
-        if other[to:to + len(wrote)] == wrote:
-            found.append((step, letters, wrote))
+    letter = one[at:at + 1]
+    sign = other[to:to + 1]
+    if letter and letter == sign:
+        found.append((("keep",), at + 1, to + 1))
+    if letter:
+        found.append((("drop",), at + 1, to))
+    if sign:
+        found.append((("add", sign), at, to + 1))
+    if letter and sign and letter != sign:
+        found.append((("swap", sign), at + 1, to + 1))
+        letters = one[at:at + 2]
+        if scheme.cost_to_turn is not None and len(letters) == 2 and other[to:to + 2] == letters[::-1]:
+            found.append((("turn",), at + 2, to + 2))
     return found
 
 
-def places(one, other):
-    """Each pair of a place in the one word and a place in the other one, those at the end first."""
-    return [(at, to) for at in range(len(one), -1, -1) for to in range(len(other), -1, -1)]
+def tails_of(scheme, one, other):
+    """The ends of all edit rows behind each pair of places of two words where few letters are left."""
+    tails = {}
+    for at in range(len(one), -1, -1):
+        for to in range(len(other), -1, -1):
+            if len(one) - at + len(other) - to <= FEW_LETTERS:
+                steps = next_steps(scheme, one, other, at, to)
+                found = [] if steps else [[]]
+                for step, after_at, after_to in reversed(steps):
+                    found.extend([[step, *tail] for tail in tails[(after_at, after_to)]])
+                tails[(at, to)] = found
+    return tails
 
 
 def rows_between(scheme, one, other):
     """All edit rows that lead from the one word to the other one; a generator."""
     check_pair(scheme, one, other)
+    tails = tails_of(scheme, one, other)
     pending = [(0, 0, ())]
     while pending:
         at, to, row = pending.pop()
-        if at == len(one) and to == len(other):
-            yield list(row)
-        for step, letters, wrote in moves(scheme, one, other, at, to):
-            pending.append((at + len(letters), to + len(wrote), (*row, step)))
+        if (at, to) in tails:
+            for tail in tails[(at, to)]:
+                yield [*row, *tail]
+        else:
+            for step, after_at, after_to in next_steps(scheme, one, other, at, to):
+                pending.append((after_at, after_to, (*row, step)))
 
 
 def row_count(scheme, one, other):
     """How many edit rows lead from the one word to the other one."""
     check_pair(scheme, one, other)
-    table = {(len(one), len(other)): 1}
-    for at, to in places(one, other)[1:]:
-        steps = moves(scheme, one, other, at, to)
-        table[(at, to)] = sum([table[(at + len(letters), to + len(wrote))] for _, letters, wrote in steps])
-    return table[(0, 0)]
+    grid = number_grid(Steps(scheme, one, other, {name: 0 for name in scheme.costs}))
+    return grid[-1][-1]

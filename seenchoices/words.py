@@ -36,7 +36,9 @@ def is_letter(value):
 
 def is_lettered(value):
     """True for a string of letters from a to z, also for the empty one."""
-    return isinstance(value, str) and all([is_letter(sign) for sign in value])
+    if not isinstance(value, str):
+        return False
+    return value == "" or (value.isascii() and value.isalpha() and value.islower())
 
 
 def is_word(value):

@@ -20,7 +20,7 @@ BUILTINS = (
 METHODS = (
     "append clear copy count endswith extend find get index insert isalnum isalpha isdigit islower isspace isupper "
     "items join keys ljust lower lstrip partition pop remove replace reverse rfind rjust rpartition rsplit rstrip "
-    "setdefault split splitlines startswith strip update upper values zfill bit_length isdecimal __init__ add discard"
+    "setdefault split splitlines startswith strip update upper values zfill bit_length isdecimal isascii __init__ add discard"
 ).split()
 LIBRARY = {
     "heapq": ["heapify", "heappop", "heappush", "heappushpop", "heapreplace"],
