@@ -21,13 +21,10 @@ def all_hold_at(rows, forks, point):
 
 
 def parts_of(proof):
-    """The facts and choices that a proof of the search uses, as tuples of a word and an index."""
+    """The facts and choices that the sums of a proof of the search use, as tuples of a word and an index."""
     if proof[0] == "sum":
         return [source[:2] for source, _ in proof[1]]
-    found = [("choice", proof[1])]
-    for part in proof[2]:
-        found.extend(parts_of(part))
-    return found
+    return [part for other in proof[2] for part in parts_of(other)]
 
 
 class Knowledge:
@@ -81,7 +78,7 @@ class Knowledge:
     def new_point(self, facts, choices):
         """A point at which everything that is known holds, with more facts and choices, or None."""
         path = self.fact_path
-        if facts and path.amounts is None:
+        if facts:
             path = path.longer([row_in_four(numbers, strict) for numbers, strict in facts])
         return reached(path, self.known_forks + self.joined_forks(choices, len(self.known_forks)))
 

@@ -45,10 +45,8 @@ def fact_text(scheme, fact):
 
 
 def read_number(text):
-    """The integer from 0 to 100 that digits without zeros before it tell, or None."""
-    if not text.isdecimal() or len(text) > len(str(GREATEST)) or str(int(text)) != text:
-        return None
-    return int(text) if int(text) <= GREATEST else None
+    """The integer from 0 to 100 that digits tell, or None."""
+    return int(text) if text.isdecimal() and int(text) <= GREATEST else None
 
 
 def read_side(scheme, text):

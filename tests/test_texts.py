@@ -100,7 +100,7 @@ class ChoiceTextTest(unittest.TestCase):
     def test_what_is_no_text(self):
         for text in any_values() + [
             "", ":", "a: b < ", "a: b <", "a: < b", ": a < b", "a:  < b", "a: b c", "a: b > c", "a: b >= c", "a b < c",
-            "a : b < c", "a:b < c", "a: b<c", "a: b  < c", " a: b < c", "a: b < c ", "a: b < c\n", "A: b < c",
+            "a : b < c", "ab b < c", "abc a <= b", "a:b < c", "a: b<c", "a: b  < c", " a: b < c", "a: b < c ", "a: b < c\n", "A: b < c",
             "a: b < abcdefg", "a: b = c", "a: b << c", "a: b < c < d", "a:: b < c", "a: b <= c d", "--: a < b",
             "a-: b < c", "a: -- < b", "a: b < -a",
         ]:

@@ -252,6 +252,11 @@ class ShowsTreeTest(unittest.TestCase):
             ([right[0], right[1], ("sum", [(("choice", 1, (2, 0)), 1)])], False),
             ([right[0], right[1], ("case", 0, (3, 4)), right[1], right[2]], False),
             ([right[2]], False), (right[1:], False),
+            ([("case", 0, (1, 1)), right[2]], False), ([("case", 0, (1, 3)), *right[1:]], False),
+            ([("case", 0, (-1, 1)), right[2]], False),
+            ([right[0], right[1], ("sum", [(("choice", 0, (2, 0), 0), 1)])], False),
+            ([right[0], right[1], ("sum", [(("choice",), 1)])], False),
+            ([right[0], right[1], ("sum", [(("choice", 0, (2, 0)), 1), (("fact",), 1)])], False),
         ]:
             self.assertIs(is_right_tree(small_scheme(), facts, choices, rows), expected, rows)
             self.assertIs(shows_tree(small_scheme(), facts, choices, rows), expected, rows)
