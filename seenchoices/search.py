@@ -6,6 +6,7 @@ the place of their indices.
 
 from seenchoices.corners import UNIT_ROWS, settled, unit_corner
 
+# More cases than two words of six letters can have.
 MANY_CASES = 1000
 
 
@@ -48,8 +49,8 @@ class Comparison:
 class Fork:
     """Comparisons of one word to others, all about the same target.
 
-    They hold at a point if all rows of one of their cases are kept there: of the case of what is cheapest there. The
-    place is the index of the choice that a single comparison stands for.
+    They hold at a point if all rows of one of their cases are kept there: then those of the case of the counts that are
+    cheapest there are. The place is the index of the choice, if a single comparison stands for it.
     """
 
     def __init__(self, place, comparisons):
@@ -156,7 +157,7 @@ def narrowest(path, forks):
 
 def in_order(paths, prices):
     """The cases in the order in which they are tried: what cannot go on first, then the cheaper ones."""
-    return sorted(range(len(paths)), key=lambda case: (paths[case].amounts is None, prices[case]))
+    return sorted(range(len(paths)), key=lambda at: (paths[at].amounts is None, prices[at]))
 
 
 def closed(path, forks):
@@ -189,7 +190,7 @@ def reached(path, forks):
     fork = broken[many.index(min(many))]
     rest = [other for other in forks if other.place != fork.place]
     prices = prices_at(fork.firsts, path.point)
-    for case in sorted(fork.open_cases(), key=lambda case: prices[case]):
+    for case in sorted(fork.open_cases(), key=lambda at: prices[at]):
         point = reached(path.longer(fork.case_rows(case)), rest)
         if point is not None:
             return point
