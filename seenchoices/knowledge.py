@@ -3,9 +3,13 @@
 from seenchoices.corners import in_four, row_in_four
 from seenchoices.counts import minimal_counts
 from seenchoices.schemes import costs_of
-from seenchoices.search import Comparison, Fork, closed, first_path, prices_at, reached
+from seenchoices.search import Comparison, Effort, Fork, closed, first_path, prices_at, reached
 from seenchoices.trees import tree_of
 from seenchoices.words import scaled
+
+# At how many paths a search looks before another way is taken, and if there is no other way.
+SOME_PATHS = 300
+ALL_PATHS = 1000000000
 
 
 def is_kept_at(row, point):
@@ -39,6 +43,7 @@ class Knowledge:
         self.known_counts = {}
         self.comparisons = {}
         self.points = []
+        self.known_facts = facts
         self.known_choices = choices
         self.fact_rows = [row_in_four(numbers, strict) for numbers, strict in facts]
         self.fact_path = first_path().longer(self.fact_rows, [("fact", index) for index in range(len(facts))])
@@ -108,30 +113,57 @@ class Knowledge:
 
     def answer_with(self, choices):
         """Costs at which more choices hold together with what is known, or a tree that shows that there are none."""
-        point, proof = closed(self.fact_path, self.single_forks([*self.known_choices, *choices]))
+        together = [*self.known_choices, *choices]
+        point, proof = closed(self.fact_path, self.single_forks(together), Effort(SOME_PATHS))
+        if point is None and proof is None:
+            point, proof = Knowledge(self.costs_in, self.known_facts, together).closed_by_parts()
         if proof is None:
             return ("costs", self.costs_at(point))
         return ("tree", tree_of(proof, self.many))
 
-    def proof_against(self, parts, forks):
-        """A proof that these facts and choices, told as parts_of tells them, cannot hold together, or None."""
+    def closed_by_parts(self):
+        """A point at which everything holds, and None; or None and a proof for parts that cannot hold together.
+
+        This is for what the search does not end soon: among few parts it does.
+        """
+        point = self.new_point((), ())
+        if point is not None:
+            return (point, None)
+        return self.closed_for(self.conflicting_parts(), Effort(ALL_PATHS))
+
+    def closed_for(self, parts, effort):
+        """What the search tells of some facts and choices, which are told as parts_of tells them."""
         facts = [index for word, index in parts if word == "fact"]
         path = first_path().longer([self.fact_rows[index] for index in facts], [("fact", index) for index in facts])
-        return closed(path, [forks[index] for word, index in parts if word == "choice"])[1]
+        forks = self.single_forks(self.known_choices)
+        return closed(path, [forks[index] for word, index in parts if word == "choice"], effort)
+
+    def parts_against(self, parts):
+        """Those of the parts that a proof needs which shows that they cannot hold together; None if they can.
+
+        If no proof is found soon, all parts are told.
+        """
+        point, proof = self.closed_for(parts, Effort(SOME_PATHS))
+        if proof is not None:
+            return parts_of(proof)
+        if point is None:
+            facts = [self.known_facts[index] for word, index in parts if word == "fact"]
+            choices = [self.known_choices[index] for word, index in parts if word == "choice"]
+            point = Knowledge(self.costs_in, facts, choices).new_point((), ())
+        return parts if point is None else None
 
     def conflicting_parts(self):
         """The parts that cannot hold together while any fewer of them can, or None."""
-        forks = self.single_forks(self.known_choices)
-        kept = [("fact", index) for index in range(len(self.fact_rows))]
-        kept.extend([("choice", index) for index in range(len(forks))])
-        proof = self.proof_against(kept, forks)
-        if proof is None:
+        kept = [("fact", index) for index in range(len(self.known_facts))]
+        kept.extend([("choice", index) for index in range(len(self.known_choices))])
+        needed = self.parts_against(kept)
+        if needed is None:
             return None
         for part in list(kept):
             fewer = [other for other in kept if other != part]
-            # What the proof does not use is left out without a search: the proof stays right.
-            other_proof = self.proof_against(fewer, forks) if part in parts_of(proof) else proof
-            if other_proof is not None:
+            # What no proof needs is left out without a search: the proof stays right.
+            found = self.parts_against(fewer) if part in needed else needed
+            if found is not None:
                 kept = fewer
-                proof = other_proof
+                needed = found
         return kept

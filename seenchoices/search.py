@@ -28,6 +28,7 @@ class Comparison:
         self.strict = 1 if strict else 0
         self.base = base
         self.made = {}
+        self.made_least = {}
         self.open_places = None
 
     def case_rows(self, case):
@@ -38,10 +39,19 @@ class Comparison:
             self.made[case] = [(w - a, x - b, y - c, z - d, strict) for w, x, y, z in self.others]
         return self.made[case]
 
+    def least_rows(self, case):
+        """The rows that are kept where no other counts of the first word are cheaper than those of a case."""
+        if case not in self.made_least:
+            a, b, c, d = self.firsts[case]
+            others = [counts for counts in self.firsts if counts != self.firsts[case]]
+            self.made_least[case] = [(w - a, x - b, y - c, z - d, 0) for w, x, y, z in others]
+        return self.made_least[case]
+
     def open_cases(self):
         """The cases that can go on behind the facts; they are sought when they are asked for the first time."""
         if self.open_places is None:
-            paths = [self.base.longer(self.case_rows(case)) for case in range(len(self.firsts))]
+            cases = range(len(self.firsts))
+            paths = [self.base.longer(self.least_rows(case) + self.case_rows(case)) for case in cases]
             self.open_places = [case for case, path in enumerate(paths) if path.amounts is None]
         return self.open_places
 
@@ -69,6 +79,14 @@ class Fork:
     def case_rows(self, case):
         """The rows of a case."""
         return [row for comparison in self.comparisons for row in comparison.case_rows(case)]
+
+    def point_rows(self, case):
+        """The rows of a case, and those that are kept where its counts are the cheapest ones of the one word.
+
+        A fork that holds at a point holds there by the case of the cheapest counts. So a point is sought for each case
+        just where it is the cheapest, and nearly nothing is searched twice.
+        """
+        return self.comparisons[0].least_rows(case) + self.case_rows(case)
 
     def case_sources(self):
         """For each row of a case what it stands for: the index of the choice and counts, in four places."""
@@ -160,20 +178,33 @@ def in_order(paths, prices):
     return sorted(range(len(paths)), key=lambda at: (paths[at].amounts is None, prices[at]))
 
 
-def closed(path, forks):
-    """A point behind a path at which all forks hold, and None; or None and a proof that there is none."""
+class Effort:
+    """How many more paths a search may look at."""
+
+    def __init__(self, left):
+        self.left = left
+
+
+def closed(path, forks, effort):
+    """A point behind a path at which all forks hold, and None; or None and a proof that there is none.
+
+    If the effort comes to an end before, both are None.
+    """
     if path.amounts is not None:
         return (None, path.proof())
     broken = [fork for fork in forks if not fork.holds(path.point)]
     if not broken:
         return (path.point, None)
+    effort.left -= 1
+    if effort.left < 0:
+        return (None, None)
     fork, paths = narrowest(path, broken)
     rest = [other for other in forks if other.place != fork.place]
     proofs = {}
     for case in in_order(paths, prices_at(fork.firsts, path.point)):
-        point, proof = closed(paths[case], rest)
-        # What does not use the case shows the same for all cases.
-        if point is not None or not uses(proof, fork.place):
+        point, proof = closed(paths[case], rest, effort)
+        # A proof that does not use the case shows the same for all cases.
+        if proof is None or not uses(proof, fork.place):
             return (point, proof)
         proofs[case] = proof
     return (None, ("case", fork.place, [proofs[case] for case in range(len(paths))]))
@@ -191,7 +222,7 @@ def reached(path, forks):
     rest = [other for other in forks if other.place != fork.place]
     prices = prices_at(fork.firsts, path.point)
     for case in sorted(fork.open_cases(), key=lambda at: prices[at]):
-        point = reached(path.longer(fork.case_rows(case)), rest)
+        point = reached(path.longer(fork.point_rows(case)), rest)
         if point is not None:
             return point
     return None

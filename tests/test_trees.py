@@ -3,12 +3,14 @@
 import copy
 import random
 import unittest
+from unittest import mock
 
 from evidence import (
     check_answer, choice_is_true, counts_between, drawn_choices, drawn_facts, more_schemes, small_scheme, true_costs,
     tree_shows,
 )
 from sample_values import any_values
+from seenchoices import knowledge
 from seenchoices.choices import conflict, explained, shows_tree
 from seenchoices.schemes import Scheme
 
@@ -304,6 +306,41 @@ class ConflictTest(unittest.TestCase):
         first[0].clear()
         first[1].append(3)
         self.assertEqual(conflict(scheme=small_scheme(), facts=against, choices=()), ([0], []))
+
+
+# Choices for which a search through all cases looks at many thousands of paths; four of them contradict each other.
+HARD_CHOICES = [
+    ("bdacd", "bcdcab", "caac", False), ("dbbba", "bcadda", "baaac", True), ("dbcacb", "dcdcaa", "acbd", False),
+    ("adcddc", "bcb", "dabab", False), ("adbdcb", "dcaccd", "dbb", True), ("aaaa", "ddb", "bbb", True),
+    ("dbad", "abc", "bdddc", False), ("dada", "daa", "bdcbda", False), ("dacc", "cdbca", "cdd", False),
+    ("bcbd", "dddcca", "aad", False), ("acc", "dcbdc", "abcdad", False), ("abdb", "bdcbcb", "dbbad", False),
+    ("ccaaa", "bbaaad", "abcc", True), ("acada", "ccda", "dba", False), ("dbba", "bbd", "adb", False),
+    ("abadcd", "ddddb", "caaa", False),
+]
+
+
+class LongSearchTest(unittest.TestCase):
+    def test_choices_with_very_many_cases(self):
+        scheme = Scheme(["p", "q", "r", "s"], add="p", drop="q", swap="r", groups=[("abc", "s")])
+        answer = explained(scheme, [], HARD_CHOICES)
+        self.assertEqual(check_answer(self, scheme, [], HARD_CHOICES, answer), "tree")
+        self.assertIs(shows_tree(scheme, [], HARD_CHOICES, answer[1]), True)
+        self.assertEqual(conflict(scheme, [], HARD_CHOICES), ([], [4, 6, 9, 11]))
+        kept = [HARD_CHOICES[index] for index in (4, 6, 9, 11)]
+        self.assertEqual(check_answer(self, scheme, [], kept, explained(scheme, [], kept)), "tree")
+        for index in range(4):
+            fewer = kept[:index] + kept[index + 1:]
+            self.assertEqual(check_answer(self, scheme, [], fewer, explained(scheme, [], fewer)), "costs")
+
+    def test_the_same_is_told_where_the_search_ends_early(self):
+        for scheme, facts, choices, source in drawn_cases(77, 150):
+            choices = choices + choices[:source.randint(0, 2)]
+            answer, found = explained(scheme, facts, choices), conflict(scheme, facts, choices)
+            for most in (0, 1, 3):
+                with mock.patch.object(knowledge, "SOME_PATHS", most):
+                    other = explained(scheme, facts, choices)
+                    self.assertEqual(check_answer(self, scheme, facts, choices, other), answer[0])
+                    self.assertEqual(conflict(scheme, facts, choices), found)
 
 
 if __name__ == "__main__":
